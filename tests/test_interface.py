@@ -1,0 +1,100 @@
+"""The names and arguments of the interface, and the rules that hold for all functions."""
+
+import doctest
+import importlib
+import inspect
+import os
+import unittest
+
+from odd_values import DEEP, ODD
+
+SIGNATURES = {
+    "spells": [
+        "is_spells(value)", "holds(a, tick)", "spells_of(ticks)", "common(a, b)", "joined(a, b)", "without(a, b)",
+        "moved(a, by)", "ticks_in(a)", "first_room(a, start, *, lasting=1)", "write_spells(a)", "read_spells(text)"],
+    "clocks": ["clock(tick)", "read_clock(text)"],
+    "tides": [
+        "is_tide(value)", "water(table, tick)", "open_spells(table, need, until)", "lowest(table, begin, end)",
+        "next_open(table, need, start, *, lasting=1)", "tide_row(table, ticks)"],
+    "channels": [
+        "channel_spells(channel, passage)", "passage_faults(channel, headway, passages)",
+        "next_passage(channel, headway, passages, way, start)",
+        "next_tidal(channel, headway, passages, way, start, table, need)"],
+    "quays": [
+        "quay_length(quay)", "depth_along(quay, at, length)", "mooring_faults(quay, moorings, *, gap=0)",
+        "free_places(quay, moorings, length, draught, begin, end, *, gap=0)",
+        "next_mooring(quay, moorings, length, draught, start, lasting, *, gap=0)"],
+    "cranes": [
+        "is_share(works, cranes, value)", "check_cranes(works, cranes, value)", "loads(works, share)",
+        "best_share(works, cranes)", "crane_paper(works, cranes)", "crane_ticks(works, share)"],
+    "boxes": [
+        "check_digit(text)", "distance_of(table, one, two)", "is_code(value)", "is_box(value)",
+        "is_distances(value)"],
+    "yards": [
+        "is_yard(value, height)", "settled_yard(yard)", "yard_after(yard, height, move)",
+        "yard_moves(yard, height)", "blocking(yard)"],
+    "fewest": [
+        "plan_ends(yard, height, value)", "check_yard(yard, height, value)", "yard_paper(yard, height)",
+        "fewest_moves(yard, height)"],
+}
+
+ANY_VALUE = {
+    "spells.is_spells": (), "tides.is_tide": (), "boxes.is_code": (), "boxes.is_box": (), "boxes.is_distances": (),
+    "cranes.is_share": ((3, 1, 2), 2), "cranes.check_cranes": ((3, 1, 2), 2),
+    "fewest.plan_ends": (((1, 2), ()), 3), "fewest.check_yard": (((1, 2), ()), 3),
+}
+
+LISTS = [
+    ("channels.channel_spells", ((2, 3), (1, "in")), {}),
+    ("channels.passage_faults", ((2, 3), 2, [(1, "in"), (1, "in")]), {}),
+    ("quays.mooring_faults", (((5, 5),), [(0, 9, 0, 1, 1)]), {"gap": 1}),
+    ("cranes.loads", ((1, 2), (0, 1, 2)), {}),
+    ("cranes.crane_ticks", ((1, 2), (0, 1, 2)), {}),
+    ("yards.yard_moves", (((1, 2), ()), 2), {}),
+]
+
+
+def told(name):
+    module, function = name.split(".")
+    return getattr(importlib.import_module("tidewarden." + module), function)
+
+
+class InterfaceTest(unittest.TestCase):
+    def test_names_and_arguments(self):
+        for module, signatures in SIGNATURES.items():
+            for signature in signatures:
+                name = signature.split("(")[0]
+                function = told(f"{module}.{name}")
+                self.assertEqual(name + str(inspect.signature(function)), signature)
+                self.assertEqual(function.__module__, "tidewarden." + module)
+
+    def test_examples_of_the_readme(self):
+        readme = os.path.join(os.path.dirname(os.path.dirname(os.path.abspath(__file__))), "README.md")
+        found = doctest.testfile(readme, module_relative=False)
+        self.assertGreater(found.attempted, 10)
+        self.assertEqual(found.failed, 0)
+
+    def test_any_value_gives_false(self):
+        for name, arguments in ANY_VALUE.items():
+            for value in ODD:
+                self.assertIs(told(name)(*arguments, value), False, name)
+
+    def test_deep_values_give_false(self):
+        for name, arguments in ANY_VALUE.items():
+            for value in DEEP:
+                for wrapped in [(value,), (value, value), ((0, value), (value, 0)), ("plan", value, value)]:
+                    self.assertIs(told(name)(*arguments, wrapped), False, name)
+
+    def test_returned_lists_are_new(self):
+        for name, arguments, keywords in LISTS:
+            first = told(name)(*arguments, **keywords)
+            again = list(first)
+            self.assertIs(type(first), list)
+            self.assertTrue(first)
+            self.assertTrue(all(type(item) in (int, tuple) for item in first))
+            first.clear()
+            self.assertEqual(told(name)(*arguments, **keywords), again)
+
+
+if __name__ == "__main__":
+    unittest.main()
