@@ -291,6 +291,27 @@ class CheckTest(unittest.TestCase):
             self.assertIs(check_yard(((1, 3, 2), ()), 3, value), False)
             self.assertIs(check_yard(((1, 3, 2), ()), 3, ("plan", plan, value)), False)
 
+    def test_shared_tree_of_a_long_plan(self):
+        # Few objects, but as many branches as there are ways to go to and fro.
+        yard = ((), (1, 3, 5, 7, 6, 4, 2))
+        plan, tree = yard_paper(yard, 7)[1:]
+        settled = settled_yard(yard)
+        known = {}
+
+        def shared(now, moves):
+            if (now, moves) not in known:
+                parts = ("blocked",)
+                if moves and is_left(now):
+                    parts = ("moves", tuple(shared(after, moves - 1) for after in further(now, 7)))
+                known[now, moves] = parts
+            return known[now, moves]
+
+        first, second = plan[0], plan[0][::-1]
+        longer = (first, second) * 35 + plan
+        self.assertIs(plan_ends(yard, 7, longer), True)
+        self.assertIs(check_yard(yard, 7, ("plan", longer, shared(settled, len(longer) - 1))), False)
+        self.assertIs(check_yard(yard, 7, ("plan", longer, tree)), False)
+
     def test_deep_tree_of_a_long_plan(self):
         # One box goes to and fro on two stacks, so each yard has one move, and no plan ends.
         yard = ((1, 2), ())

@@ -2,7 +2,7 @@
 
 from heapq import heappush, heappop
 
-from tidewarden.kinds import ascends, is_marked, is_pair
+from tidewarden.kinds import ascends, is_marked, is_pair, is_tuple
 from tidewarden.yards import blocking, is_move, is_yard, settled_yard, yard_after, yard_moves
 
 
@@ -36,19 +36,18 @@ def search(yard, height):
     """
     begin = settled_yard(yard)
     met = {begin: (0, None, None)}
-    queue = [(blocking(begin), 0, begin)]
+    queue = [(blocking(begin), blocking(begin), begin)]
     while queue:
-        _, many, now = heappop(queue)
+        _, _, now = heappop(queue)
         if not has_boxes(now):
             return now, met
-        if many > met[now][0]:
-            continue
+        many = met[now][0] + 1
         for move in yard_moves(now, height):
             after = yard_after(now, height, move)
-            if after not in met or many + 1 < met[after][0]:
-                met[after] = (many + 1, now, move)
-                # A move rids at most one box of blocking, so no plan is shorter than this sum.
-                heappush(queue, (many + 1 + blocking(after), many + 1, after))
+            if after not in met or many < met[after][0]:
+                met[after] = (many, now, move)
+                # A move rids at most one box of blocking, so no plan by this yard is shorter than the sum.
+                heappush(queue, (many + blocking(after), blocking(after), after))
     return None, met
 
 
@@ -127,5 +126,8 @@ def check_yard(yard, height, value):
     if not is_marked(value, "plan", 3) or not plan_ends(yard, height, value[1]):
         return False
     if len(value[1]) == 0:
-        return type(value[2]) is tuple and len(value[2]) == 0
+        return is_tuple(value[2], 0)
+    # Only a shortest plan has a tree, and what is told for a longer one may be too large to go through.
+    if len(value[1]) > fewest_moves(yard, height):
+        return False
     return is_tree(settled_yard(yard), height, len(value[1]) - 1, value[2], {})
