@@ -15,7 +15,7 @@ METHODS = set("""
     append clear copy count endswith extend find get index insert isalnum isalpha isdigit islower isspace
     isupper items join keys ljust lower lstrip partition pop remove replace reverse rfind rjust rpartition
     rsplit rstrip setdefault split splitlines startswith strip update upper values zfill bit_length sort
-    add discard
+    add discard removeprefix removesuffix
 """.split())
 LIBRARY = {
     "heapq": {"heappush", "heappop", "heapify", "heapreplace", "heappushpop"},

@@ -1,6 +1,6 @@
 """Boxes: their codes and kinds, and the distances that dangerous kinds keep."""
 
-from tidewarden.kinds import are_digits, ascends, is_between, is_tuple
+from tidewarden.kinds import are_digits, ascends, is_between, is_tuple, is_word
 
 LETTERS = "ABCDEFGHIJKLMNOPQRSTUVWXYZ"
 DANGEROUS = ("d1", "d2", "d3", "d4", "d5", "d6", "d7", "d8", "d9")
@@ -36,17 +36,12 @@ def is_code(value):
     return check_digit(value[:CODE_SIGNS]) == int(value[CODE_SIGNS])
 
 
-def is_kind(value, kinds):
-    """Tell whether any value is one of some texts."""
-    return type(value) is str and value in kinds
-
-
 def is_box(value):
     """Tell whether any value is a box."""
     if not is_tuple(value, 4):
         return False
     code, weight, kind, port = value
-    if not is_code(code) or not is_kind(kind, KINDS):
+    if not is_code(code) or not is_word(kind, KINDS):
         return False
     return is_between(weight, 1, MOST_WEIGHT) and is_between(port, 1, MOST_PORT)
 
@@ -56,7 +51,7 @@ def is_told_distance(value):
     if not is_tuple(value, 3):
         return False
     one, two, distance = value
-    if not is_kind(one, DANGEROUS) or not is_kind(two, DANGEROUS):
+    if not is_word(one, DANGEROUS) or not is_word(two, DANGEROUS):
         return False
     return one <= two and is_between(distance, 1, MOST_DISTANCE)
 

@@ -17,6 +17,16 @@ def is_tuple(value, size):
     return type(value) is tuple and len(value) == size
 
 
+def is_row(value, least, most):
+    """Tell whether a value is a tuple with a number of items from the least to the most."""
+    return type(value) is tuple and least <= len(value) <= most
+
+
+def is_word(value, words):
+    """Tell whether a value is one of some texts."""
+    return type(value) is str and value in words
+
+
 def are_integers(value):
     """Tell whether a value is a tuple of integers."""
     return type(value) is tuple and all(type(item) is int for item in value)
