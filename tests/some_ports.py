@@ -12,6 +12,7 @@ GONE = (3, 0, 0)
 WHO = ("first", "last", "longest", "deepest", "busiest", "oldest")
 WHERE = ("first", "tightest", "deepest")
 FIELDS = ("tick", "tide", "roads", "berthed", "stops")
+PROMISE_WORDS = ("berthed", "gone", "waits", "roads", "afloat", "apart")
 
 
 def waits(ticks):
@@ -201,3 +202,31 @@ def plain_courses(port, book, ticks):
                 later.append((course + ((arrivals, stops),), triples + (tuple(triple),)))
         rows = later
     return rows
+
+
+def some_promise(rng, port):
+    vessels, ticks = range(len(port[4])), range(port[0])
+    word = rng.choice(PROMISE_WORDS[:5] if len(vessels) == 1 else PROMISE_WORDS)
+    if word == "afloat":
+        return (word,)
+    if word == "roads":
+        return (word, rng.randint(0, 2))
+    if word == "apart":
+        return (word, *rng.sample(vessels, 2))
+    return (word, rng.choice(vessels), rng.randint(0, 3) if word == "waits" else rng.choice(ticks))
+
+
+def plain_broken(port, promise, tick, middle, after):
+    """The words of point 16.1."""
+    kinds = [place[0] for place in after[0]]
+    berths = {v: berth for v, (kind, berth, _) in enumerate(middle[0]) if kind == 2}
+    word, *numbers = promise
+    if word in ("berthed", "gone"):
+        return tick == numbers[1] and kinds[numbers[0]] in ((0, 1) if word == "berthed" else (0, 1, 2))
+    if word == "waits":
+        return after[0][numbers[0]] in [waits(w) for w in range(numbers[1] + 1, 99)]
+    if word == "roads":
+        return kinds.count(1) > numbers[0]
+    if word == "afloat":
+        return any(port[2][tick] + port[3][berth][1] < port[4][v][1] for v, berth in berths.items())
+    return set(numbers) <= set(berths) and berths[numbers[0]] - berths[numbers[1]] in (-1, 1)

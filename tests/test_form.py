@@ -121,6 +121,23 @@ class FormTest(unittest.TestCase):
                 own = {part.name for _, part in self.nodes(ast.FunctionDef)}
                 self.assertIn(node.func.attr, METHODS | own, name)
 
+    def test_lists_are_asked_instead_of_generators(self):
+        # A class with a comparison of its own is in the package.
+        self.assertEqual([(name, ast.unparse(node)) for name, node in self.nodes(ast.GeneratorExp)], [])
+        for name, node in self.nodes(ast.Attribute):
+            self.assertNotEqual(node.attr, "sort", name)
+
+    def test_no_circles_of_imports(self):
+        imports = {
+            name[:-3]: [part.module.split(".")[1] for part in tree.body
+                        if isinstance(part, ast.ImportFrom) and part.module.startswith("tidewarden.")]
+            for name, tree in self.trees.items()}
+        settled = []
+        while len(settled) < len(imports):
+            more = [name for name in imports if name not in settled and set(imports[name]) <= set(settled)]
+            self.assertTrue(more, sorted(set(imports) - set(settled)))
+            settled += more
+
     def test_names_are_known(self):
         for name, tree in self.trees.items():
             known = set(BUILTINS) | {"_"}

@@ -61,6 +61,32 @@ SIGNATURES = {
     "promises": [
         "is_promise(port, value)", "broken(port, promise, tick, middle, after)",
         "first_break(port, book, promises, course)"],
+    "papers": ["book_paper(port, book, promises)", "check_book(port, book, promises, value)", "keeps(port, book, promises)"],
+    "games": ["game_paper(port, promises)", "check_game(port, promises, value)", "can_keep(port, promises)"],
+    "likeness": ["likeness_paper(port, one, two)", "check_likeness(port, one, two, value)", "are_alike(port, one, two)"],
+    "changes": [
+        "change_paper(port, old, new, tick, promises)", "check_change(port, old, new, tick, promises, value)",
+        "does_harm(port, old, new, tick, promises)"],
+    "reports": [
+        "is_map(value)", "is_walk(plan, ticks, value)",
+        "check_place(plan, ticks, boxes, reports, most, box, place, value)", "wrong_reports(reports, walks)",
+        "can_be(plan, ticks, boxes, reports, most)", "least_wrong(plan, ticks, reports, box)",
+        "place_paper(plan, ticks, boxes, reports, most, box, place)"],
+    "bills": ["bill_rows(port, triples)", "settlement(port, triples)", "paid(port, triples)", "caused(port, triples)"],
+    "porttexts": [
+        "write_port(port)", "write_course(course)", "write_promise(promise)", "read_port(text)", "read_course(text)",
+        "read_promise(port, text)"],
+    "logs": [
+        "log_of(port, book, course)", "read_log(port, book, lines)", "journal(port, book, course)",
+        "read_journal(port, book, text)"],
+}
+
+METHODS = {
+    "harbour.Harbour": [
+        "__init__(self, port, book=())", "__len__(self)", "__eq__(self, other)", "step(self, arrivals=(), stops=())",
+        "guided(self, movement, *, arrivals=(), stops=())", "set_book(self, book)", "undo(self)", "book(self)", "port(self)",
+        "done(self)", "movements(self)", "events(self)", "breaks(self, promises)", "will_keep(self, promises)", "bill(self)"],
+    "console.Console": ["__init__(self, port)", "enter(self, line)"],
 }
 
 SHIP = (1, 2, 2, (), 4, 4)
@@ -68,6 +94,8 @@ BOX = ("CSQU3054383", 2, "plain", 1)
 LOAD = (((0, 0, 0), BOX),)
 BOOK = (((), ("out", "first")), ((), ("in", "first", "first")))
 START = (((0, 0, 0), (0, 0, 0)), 1)
+PLAN = (2, ((0, 1),))
+TRIPLES = [(("none",), (((1, 0, 0), (2, 0, 2)), 1), (((1, 1, 0), (2, 0, 1)), 1))]
 
 ANY_VALUE = {
     "spells.is_spells": (), "tides.is_tide": (), "boxes.is_code": (), "boxes.is_box": (), "boxes.is_distances": (),
@@ -76,7 +104,10 @@ ANY_VALUE = {
     "ships.is_ship": (), "ships.is_load": (SHIP,), "stowing.check_stow": (SHIP, (), [BOX]),
     "loading.is_even": (SHIP, LOAD), "loading.check_order": (SHIP, LOAD), "ports.is_port": (), "ports.is_state": (P,),
     "trucks.is_appointment": ((1,), ((0,), (0,))), "trucks.check_gate": ((1,), ((0,), (0,))), "books.is_book": (),
-    "courses.is_course": (P, BOOK), "promises.is_promise": (P,),
+    "courses.is_course": (P, BOOK), "promises.is_promise": (P,), "papers.check_book": (P, BOOK, (("gone", 0, 3),)),
+    "games.check_game": (P, (("gone", 0, 3),)), "likeness.check_likeness": (P, BOOK, ()),
+    "changes.check_change": (P, BOOK, (), 1, (("waits", 1, 3),)), "reports.is_map": (), "reports.is_walk": (PLAN, 2),
+    "reports.check_place": (PLAN, 2, 1, (), 0, 0, 1),
 }
 
 # What is of the form although it stands among the odd values, since the empty tuple does.
@@ -99,6 +130,13 @@ LISTS = [
     ("books.reasons", (BOOK, P, 0, START), {}),
     ("courses.run", (P, BOOK, (((1,), ()),)), {}),
     ("courses.run_with", (P, (("none",),), (((1,), ()),)), {}),
+    ("reports.can_be", (PLAN, 2, 1, (), 0), {}),
+    ("reports.least_wrong", (PLAN, 2, (), 0), {}),
+    ("bills.bill_rows", (P, TRIPLES), {}),
+    ("bills.paid", (P, TRIPLES), {}),
+    ("bills.caused", (P, TRIPLES), {}),
+    ("bills.settlement", (P, TRIPLES), {}),
+    ("logs.log_of", (P, BOOK, (((1,), ()),)), {}),
 ]
 
 
@@ -125,6 +163,17 @@ class InterfaceTest(unittest.TestCase):
                 self.assertEqual(name + str(inspect.signature(function)), signature)
                 self.assertEqual(function.__module__, "tidewarden." + module)
 
+    def test_methods_of_the_classes(self):
+        for name, signatures in METHODS.items():
+            own = vars(told(name))
+            self.assertEqual(told(name).__module__, "tidewarden." + name.split(".")[0])
+            for signature in signatures:
+                method = signature.split("(")[0]
+                self.assertIn(method, own)
+                self.assertEqual(method + str(inspect.signature(own[method])), signature)
+        for name in ("left", "state"):
+            self.assertIsInstance(vars(told("harbour.Harbour"))[name], property)
+
     def test_examples_of_the_readme(self):
         readme = os.path.join(os.path.dirname(os.path.dirname(os.path.abspath(__file__))), "README.md")
         found = doctest.testfile(readme, module_relative=False)
@@ -148,7 +197,7 @@ class InterfaceTest(unittest.TestCase):
             again = list(first)
             self.assertIs(type(first), list)
             self.assertTrue(first)
-            self.assertTrue(all(type(item) in (int, str, tuple) for item in first))
+            self.assertTrue(all(type(item) in ((list,) if name == "reports.can_be" else (int, str, tuple)) for item in first))
             first.clear()
             self.assertEqual(told(name)(*arguments, **keywords), again)
 

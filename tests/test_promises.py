@@ -3,13 +3,15 @@ import random
 import unittest
 
 from odd_values import DEEP, ODD, with_changes
-from some_ports import AWAY, GONE, P, WIDE, lies, plain_courses, some_book, some_port, some_state, waits
+from some_ports import (
+    AWAY, GONE, P, PROMISE_WORDS, WIDE, lies, plain_broken, plain_courses, some_book, some_port, some_promise, some_state,
+    waits)
 
 from tidewarden.promises import broken, first_break, is_promise
 
 BOOK = (((), ("out", "first")), ((), ("in", "first", "first")))
 COURSE = (((1,), ()), ((0,), ()), ((), ()), ((), ()))
-WORDS = ("berthed", "gone", "waits", "roads", "afloat", "apart")
+WORDS = PROMISE_WORDS
 
 
 def all_promises(port):
@@ -17,34 +19,6 @@ def all_promises(port):
     found = [(word, v, t) for word in ("berthed", "gone") for v in vessels for t in ticks]
     found += [("waits", v, most) for v in vessels for most in range(41)] + [("roads", most) for most in range(5)]
     return found + [("apart", v, w) for v in vessels for w in vessels if v != w] + [("afloat",)]
-
-
-def some_promise(rng, port):
-    vessels, ticks = range(len(port[4])), range(port[0])
-    word = rng.choice(WORDS[:5] if len(vessels) == 1 else WORDS)
-    if word == "afloat":
-        return (word,)
-    if word == "roads":
-        return (word, rng.randint(0, 2))
-    if word == "apart":
-        return (word, *rng.sample(vessels, 2))
-    return (word, rng.choice(vessels), rng.randint(0, 3) if word == "waits" else rng.choice(ticks))
-
-
-def plain_broken(port, promise, tick, middle, after):
-    """The words of point 16.1."""
-    kinds = [place[0] for place in after[0]]
-    berths = {v: berth for v, (kind, berth, _) in enumerate(middle[0]) if kind == 2}
-    word, *numbers = promise
-    if word in ("berthed", "gone"):
-        return tick == numbers[1] and kinds[numbers[0]] in ((0, 1) if word == "berthed" else (0, 1, 2))
-    if word == "waits":
-        return after[0][numbers[0]] in [waits(w) for w in range(numbers[1] + 1, 99)]
-    if word == "roads":
-        return kinds.count(1) > numbers[0]
-    if word == "afloat":
-        return any(port[2][tick] + port[3][berth][1] < port[4][v][1] for v, berth in berths.items())
-    return set(numbers) <= set(berths) and berths[numbers[0]] - berths[numbers[1]] in (-1, 1)
 
 
 class IsPromiseTest(unittest.TestCase):

@@ -31,7 +31,7 @@ def is_code(value):
     """Tell whether any value is a code."""
     if type(value) is not str or len(value) != CODE_SIGNS + 1:
         return False
-    if not all(sign in LETTERS for sign in value[:CODE_LETTERS]) or not are_digits(value[CODE_LETTERS:]):
+    if not all([sign in LETTERS for sign in value[:CODE_LETTERS]]) or not are_digits(value[CODE_LETTERS:]):
         return False
     return check_digit(value[:CODE_SIGNS]) == int(value[CODE_SIGNS])
 
@@ -58,7 +58,7 @@ def is_told_distance(value):
 
 def is_distances(value):
     """Tell whether any value is a table of distances."""
-    if type(value) is not tuple or not all(is_told_distance(item) for item in value):
+    if type(value) is not tuple or not all([is_told_distance(item) for item in value]):
         return False
     # If the pairs of kinds ascend, the triples do, and no pair stands there twice.
     return ascends([(one, two) for one, two, _ in value])

@@ -9,7 +9,7 @@ def is_share(works, cranes, value):
         return False
     if value[0] != 0 or value[-1] != len(works):
         return False
-    return all(value[i] <= value[i + 1] for i in range(cranes))
+    return all([value[i] <= value[i + 1] for i in range(cranes)])
 
 
 def loads(works, share):
@@ -69,14 +69,14 @@ def check_cranes(works, cranes, value):
     if not is_tuple(value, 2) or not is_share(works, cranes, value[0]):
         return False
     share, bays = value
-    if not are_integers(bays) or not ascends(bays) or not all(0 <= bay < len(works) for bay in bays):
+    if not are_integers(bays) or not ascends(bays) or not all([0 <= bay < len(works) for bay in bays]):
         return False
     most = max(loads(works, share))
     if len(bays) == 1:
         return works[bays[0]] >= most
     if len(bays) != cranes + 1:
         return False
-    return all(sum(works[bays[k]:bays[k + 1] + 1]) >= most for k in range(cranes))
+    return all([sum(works[bays[k]:bays[k + 1] + 1]) >= most for k in range(cranes)])
 
 
 def crane_ticks(works, share):

@@ -8,7 +8,7 @@ from tidewarden.yards import blocking, is_move, is_yard, settled_yard, yard_afte
 
 def has_boxes(yard):
     """Tell whether some box is in a yard."""
-    return any(len(stack) > 0 for stack in yard)
+    return any([len(stack) > 0 for stack in yard])
 
 
 def yards_after(yard, height):
@@ -98,23 +98,26 @@ def is_tree(yard, height, moves, value, known):
     if yard not in known:
         known[yard] = yards_after(yard, height)
     further = known[yard]
-    if len(value[1]) != len(further) or not all(has_boxes(after) for after in further):
+    if len(value[1]) != len(further) or not all([has_boxes(after) for after in further]):
         return False
-    return all(is_tree(after, height, moves - 1, tree, known) for after, tree in zip(further, value[1]))
+    for after, tree in zip(further, value[1]):
+        if not is_tree(after, height, moves - 1, tree, known):
+            return False
+    return True
 
 
 def are_closed(yards, height):
     """Tell whether each of some yards has a box, and the yards after its moves are among them."""
     listed = {yard: True for yard in yards}
     for yard in yards:
-        if not has_boxes(yard) or not all(after in listed for after in yards_after(yard, height)):
+        if not has_boxes(yard) or not all([after in listed for after in yards_after(yard, height)]):
             return False
     return True
 
 
 def is_never(yard, height, value):
     """Tell whether any value is a tuple of yards that a yard never leaves."""
-    if type(value) is not tuple or not all(is_yard(item, height) for item in value):
+    if type(value) is not tuple or not all([is_yard(item, height) for item in value]):
         return False
     return ascends(value) and settled_yard(yard) in value and are_closed(value, height)
 

@@ -29,7 +29,7 @@ def is_word(value, words):
 
 def are_integers(value):
     """Tell whether a value is a tuple of integers."""
-    return type(value) is tuple and all(type(item) is int for item in value)
+    return type(value) is tuple and all([type(item) is int for item in value])
 
 
 def is_pair(value):
@@ -44,12 +44,12 @@ def is_marked(value, word, size):
 
 def ascends(items):
     """Tell whether each item of a list or tuple is less than the next one."""
-    return all(items[k] < items[k + 1] for k in range(len(items) - 1))
+    return all([items[k] < items[k + 1] for k in range(len(items) - 1)])
 
 
 def are_digits(text):
     """Tell whether all signs of a text are decimal digits."""
-    return all("0" <= sign <= "9" for sign in text)
+    return all(["0" <= sign <= "9" for sign in text])
 
 
 def number_in(text):

@@ -5,7 +5,7 @@ from tidewarden.spells import merged, without
 
 def quay_length(quay):
     """Return the sum of the lengths of the pieces of a quay."""
-    return sum(length for length, _ in quay)
+    return sum([length for length, _ in quay])
 
 
 def pieces_of(quay):

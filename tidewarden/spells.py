@@ -13,9 +13,9 @@ def is_spell(value):
 
 def is_spells(value):
     """Tell whether any value is a tuple of spells that neither overlap nor touch."""
-    if type(value) is not tuple or not all(is_spell(item) for item in value):
+    if type(value) is not tuple or not all([is_spell(item) for item in value]):
         return False
-    return all(value[k][1] < value[k + 1][0] for k in range(len(value) - 1))
+    return all([value[k][1] < value[k + 1][0] for k in range(len(value) - 1)])
 
 
 def merged(pairs):
@@ -61,12 +61,12 @@ def moved(a, by):
 
 def holds(a, tick):
     """Tell whether a tick is held."""
-    return any(begin <= tick < end for begin, end in a)
+    return any([begin <= tick < end for begin, end in a])
 
 
 def ticks_in(a):
     """Return the number of the ticks that are held."""
-    return sum(end - begin for begin, end in a)
+    return sum([end - begin for begin, end in a])
 
 
 def first_room(a, start, *, lasting=1):
@@ -82,7 +82,7 @@ def write_spells(a):
     """Return the text of spells."""
     if not a:
         return NO_SPELLS
-    return " ".join(f"{begin}..{end}" for begin, end in a)
+    return " ".join([f"{begin}..{end}" for begin, end in a])
 
 
 def read_spells(text):

@@ -13,13 +13,13 @@ def is_tide(value):
     """Tell whether any value is a tide table."""
     if type(value) is not tuple or not LEAST_PAIRS <= len(value) <= MOST_PAIRS:
         return False
-    if not all(is_pair(item) for item in value):
+    if not all([is_pair(item) for item in value]):
         return False
     ticks = [tick for tick, _ in value]
     heights = [height for _, height in value]
     if ticks[0] != 0 or ticks[-1] > MOST_PERIOD or not ascends(ticks):
         return False
-    return heights[0] == heights[-1] and all(is_between(height, 0, MOST_HEIGHT) for height in heights)
+    return heights[0] == heights[-1] and all([is_between(height, 0, MOST_HEIGHT) for height in heights])
 
 
 def period_of(table):
@@ -50,7 +50,7 @@ def lowest(table, begin, end):
     """Return the least water at the ticks from begin to end - 1, and the first tick that has it."""
     # What comes after a whole period has come before.
     last = min(end, begin + period_of(table))
-    return min((water(table, tick), tick) for tick in range(begin, last))
+    return min([(water(table, tick), tick) for tick in range(begin, last)])
 
 
 def next_open(table, need, start, *, lasting=1):

@@ -10,10 +10,10 @@ def is_yard(value, height):
     """Tell whether any value is a yard whose stacks have at most as many boxes as told."""
     if type(value) is not tuple or not 1 <= len(value) <= MOST_STACKS:
         return False
-    if not all(are_integers(stack) and len(stack) <= height for stack in value):
+    if not all([are_integers(stack) and len(stack) <= height for stack in value]):
         return False
     boxes = boxes_of(value)
-    return all(box >= 1 for box in boxes) and len(set(boxes)) == len(boxes)
+    return all([box >= 1 for box in boxes]) and len(set(boxes)) == len(boxes)
 
 
 def boxes_of(yard):
