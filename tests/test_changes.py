@@ -176,6 +176,13 @@ class CheckChangeTest(unittest.TestCase):
         self.assertIs(check_change(*arguments[:4], (), paper), False)
         self.assertIs(check_change(*arguments[:4], (("roads", 0),) + arguments[4], paper), False)
 
+    def test_harm_with_a_promise_broken_before(self):
+        course = (((0, 1), ()),) + (((), ()),) * 3
+        kept = layers_from(P, BOOK, 2, (((2, 0, 0), (1, 2, 0)), 1))
+        for promises, right in [(WAITS, True), (WAITS + (("berthed", 1, 0),), False), (WAITS + (("berthed", 0, 0),), True)]:
+            self.assertIs(right_change(P, BOOK, (), 2, promises, ("harm", course, kept)), right)
+            self.assertIs(check_change(P, BOOK, (), 2, promises, ("harm", course, kept)), right)
+
     def test_refused_safe(self):
         for arguments in [(P, (), BOOK, 2, WAITS), (P, BOOK, BOOK, 2, WAITS), (P, BOOK, BOOK[1:], 2, (("roads", 1),))]:
             paper = change_paper(*arguments)
@@ -214,6 +221,19 @@ class CheckChangeTest(unittest.TestCase):
         self.assertIs(check_change(P, BOOK, (), 0, PROMISES, ("harm", way, kept)), True)
         self.assertIs(check_change(P, (), BOOK, 0, PROMISES, ("harm", way, kept)), False)
         self.assertIs(check_change(P, BOOK, (), 0, PROMISES, ("harm", way, layers_from(P, (), 0, plain_start(P)))), False)
+
+    def test_ways_that_are_longer_than_the_day(self):
+        # The promise would be broken behind the last tick of the day.
+        promises = (("waits", 1, 4),)
+        _, layers, answers = change_paper(P, (), BOOK, 2, promises)
+        self.assertEqual(len(answers), 2)
+        for many in (2, 3):
+            ways = ((("way", (((), ()),) * many),) * 2)
+            self.assertIs(check_change(P, (), BOOK, 2, promises, ("safe", layers, ways)), False)
+            self.assertIs(check_change(P, (), BOOK, 2, (("waits", 1, 3),), ("safe", layers, ways)), many == 2)
+            course = (((0, 1), ()),) + (((), ()),) * (many + 1)
+            kept = layers_from(P, BOOK, 2, (((1, 2, 0), (1, 2, 0)), 1))
+            self.assertIs(check_change(P, BOOK, (), 2, promises, ("harm", course, kept)), False)
 
     def test_changes_by_the_words(self):
         taken = refused = 0

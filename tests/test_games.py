@@ -231,6 +231,16 @@ class CheckGameTest(unittest.TestCase):
             day = ((0,), (((), ((), (((), ((), (((), last),))),))), ((), ((), (((), last), ((), last))))))
             self.assertIs(check_game(port, (), ("spoils", day)), False)
 
+    def test_trees_that_are_longer_than_the_day(self):
+        # The vessel is too deep for the berth, but waits too long only behind the last tick of the day.
+        port = (1, 9, (0,), ((5, 9),), ((5, 10, 0, 0, 1),), 0)
+        tree = ((0,), (((), ((), (((), ()),))),))
+        self.assertIs(check_game(port, (("waits", 0, 1),), ("spoils", tree)), False)
+        self.assertIs(check_game(port, (("waits", 0, 0),), ("spoils", tree)), False)
+        self.assertIs(check_game(port, (("waits", 0, 0),), ("spoils", ((0,), (((), ()),)))), True)
+        self.assertIs(check_game((2, 9, (0, 0)) + port[3:], (("waits", 0, 1),), ("spoils", tree)), True)
+        self.assertIs(can_keep(port, (("waits", 0, 1),)), True)
+
     def test_changes_by_the_words(self):
         taken = refused = 0
         for _, port, promises in some_cases(6, 60):

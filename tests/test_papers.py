@@ -132,6 +132,13 @@ class CheckBookTest(unittest.TestCase):
         self.assertIs(check_book(P, BOOK, (("gone", 1, 3),), ("course", course)), False)
         self.assertIs(check_book(P, BOOK, (), ("course", course)), False)
 
+    def test_courses_that_are_longer_than_the_day(self):
+        # The promise would be broken behind the last tick of the day.
+        course = (((0, 1), ()),) + (((), ()),) * 4
+        self.assertIs(check_book(P, (), (("waits", 1, 4),), ("course", course)), False)
+        self.assertIs(check_book(P, (), (("waits", 1, 3),), ("course", course[:4])), True)
+        self.assertIs(keeps(P, (), (("waits", 1, 4),)), True)
+
     def test_changes_by_the_words(self):
         taken = refused = 0
         for _, port, book, promises in some_cases(4, 60, 3, 2):

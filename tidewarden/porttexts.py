@@ -35,6 +35,11 @@ def numbers_of(rows, word):
     return [numbers for told, numbers in rows if told == word]
 
 
+def is_single(numbers, low, high):
+    """Tell whether there is one number, and it is from low to high."""
+    return len(numbers) == 1 and is_between(numbers[0], low, high)
+
+
 def is_next_row(rows, word, numbers):
     """Tell whether a row with a word and numbers can stand behind the rows of a port's text."""
     if word not in FOLLOWERS[rows[-1][0] if rows else ""]:
@@ -46,9 +51,9 @@ def is_next_row(rows, word, numbers):
         return is_berth(numbers) and len(numbers_of(rows, word)) < MOST_BERTHS
     if word == "vessel":
         return is_vessel(rows[0][1][0], numbers) and len(numbers_of(rows, word)) < MOST_VESSELS
-    low = 1 if word == "ticks" else 0
-    high = {"ticks": MOST_TICKS, "bar": DEEPEST, "stops": MOST_STOPS}[word]
-    return len(numbers) == 1 and is_between(numbers[0], low, high)
+    if word == "ticks":
+        return is_single(numbers, 1, MOST_TICKS)
+    return is_single(numbers, 0, DEEPEST if word == "bar" else MOST_STOPS)
 
 
 def read_port(text):
